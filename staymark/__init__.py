@@ -1,0 +1,1 @@
+"""Texts of several hands, with marks that stay."""

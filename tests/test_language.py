@@ -1,0 +1,280 @@
+"""The package's own files keep to the rules L1 to L28, as far as a walk over them can see."""
+
+import ast
+import builtins
+import pathlib
+import re
+import unittest
+
+PACKAGE = pathlib.Path(__file__).resolve().parent.parent / "staymark"
+FILES = sorted(PACKAGE.rglob("*.py"))
+
+ALLOWED_NODES = (
+    ast.Module, ast.ImportFrom, ast.alias, ast.FunctionDef, ast.ClassDef, ast.arguments, ast.arg, ast.Lambda,
+    ast.Assign, ast.AugAssign, ast.If, ast.While, ast.For, ast.Return, ast.Break, ast.Continue, ast.Pass, ast.Raise,
+    ast.Try, ast.ExceptHandler, ast.Expr, ast.Call, ast.Constant, ast.List, ast.Tuple, ast.Dict, ast.Set, ast.Name,
+    ast.Attribute, ast.Subscript, ast.Slice, ast.BinOp, ast.UnaryOp, ast.BoolOp, ast.Compare, ast.IfExp,
+    ast.ListComp, ast.comprehension, ast.JoinedStr, ast.FormattedValue, ast.keyword, ast.expr_context, ast.operator,
+    ast.unaryop, ast.boolop, ast.cmpop,
+)
+OWN_NAMES = """len range enumerate zip min max sum abs sorted reversed int str bool list tuple dict set frozenset
+isinstance ord repr any all divmod Exception ValueError TypeError KeyError IndexError LookupError ZeroDivisionError
+ArithmeticError OverflowError RuntimeError NotImplementedError AttributeError StopIteration""".split()
+OWN_METHODS = """append clear copy count endswith extend find get index insert isalnum isalpha isdigit islower isspace
+isupper items join keys ljust lower lstrip partition pop remove replace reverse rfind rjust rpartition rsplit rstrip
+setdefault split splitlines startswith strip update upper values zfill bit_length""".split()
+SPECIAL_METHODS = ["__init__", "__eq__", "__repr__", "__str__", "__len__"]
+WORDS_NOWHERE = """type typing typing_extensions enum Enum IntEnum StrEnum Flag IntFlag Generic Protocol ABC ABCMeta
+namedtuple NamedTuple TypedDict TYPE_CHECKING abstractmethod""".split()
+PARTS_NOWHERE = ["dataclass", "overload", "contextmanager"]
+NAMES_NOWHERE = """register mro elements open input version_info with_traceback add_note format format_map""".split()
+FILE_NAMES_NOWHERE = ["test", "tests", "testing", "site", "conftest", "sitecustomize", "usercustomize"]
+
+
+def trees():
+    return [(path, path.read_text(encoding="utf-8"), ast.parse(path.read_text(encoding="utf-8"))) for path in FILES]
+
+
+def defs_of(tree):
+    return [node for node in ast.walk(tree) if isinstance(node, ast.FunctionDef)]
+
+
+def bound_names(tree):
+    """Each name that a file gives to a thing, with its line."""
+    for node in ast.walk(tree):
+        if isinstance(node, (ast.FunctionDef, ast.ClassDef)):
+            yield node.name, node.lineno
+        elif isinstance(node, ast.arg):
+            yield node.arg, node.lineno
+        elif isinstance(node, ast.Name) and isinstance(node.ctx, ast.Store):
+            yield node.id, node.lineno
+        elif isinstance(node, ast.Attribute) and isinstance(node.ctx, ast.Store):
+            yield node.attr, node.lineno
+
+
+def top_names(tree):
+    names = []
+    for node in tree.body:
+        if isinstance(node, (ast.FunctionDef, ast.ClassDef)):
+            names.append(node.name)
+        elif isinstance(node, ast.Assign):
+            names += [target.id for target in node.targets]
+        elif isinstance(node, ast.ImportFrom):
+            names += [alias.name for alias in node.names]
+    return names
+
+
+class Language(unittest.TestCase):
+    def refuse(self, path, line, rule, what):
+        self.fail(f"{path.name}:{line}: {rule}: {what}")
+
+    def test_there_are_files(self):
+        self.assertIn("__init__.py", [path.name for path in FILES])
+
+    def test_files_of_the_folder(self):
+        for path in PACKAGE.rglob("*"):
+            if "__pycache__" in path.parts:
+                continue
+            with self.subTest(file=path.name):
+                self.assertTrue(path.is_file() and re.fullmatch(r"[a-z0-9_]+\.py", path.name))
+                self.assertNotIn(path.stem, FILE_NAMES_NOWHERE + WORDS_NOWHERE + dir(builtins))
+                self.assertFalse(path.stem.startswith("test_"))
+
+    def test_signs_and_sizes(self):
+        for path, text, tree in trees():
+            with self.subTest(file=path.name):
+                self.assertTrue(all(sign == "\n" or " " <= sign <= "~" for sign in text))
+                rows = text.split("\n")
+                self.assertLessEqual(len(rows), 400)
+                self.assertLessEqual(max(len(row) for row in rows), 120)
+                for node in defs_of(tree):
+                    self.assertLessEqual(node.end_lineno - node.lineno + 1, 40, node.name)
+
+    def test_words(self):
+        for path, text, tree in trees():
+            with self.subTest(file=path.name):
+                for word in WORDS_NOWHERE:
+                    self.assertIsNone(re.search(rf"\b{word}\b", text), word)
+                for part in PARTS_NOWHERE:
+                    self.assertNotIn(part, text)
+
+    def test_nodes(self):
+        for path, text, tree in trees():
+            with self.subTest(file=path.name):
+                for node in ast.walk(tree):
+                    if not isinstance(node, ALLOWED_NODES) or isinstance(node, ast.Div):
+                        self.refuse(path, getattr(node, "lineno", 0), "L6, L7", ast.dump(node))
+                    if isinstance(node, ast.Constant) and isinstance(node.value, (float, bytes, complex)):
+                        self.refuse(path, node.lineno, "L7", node.value)
+                    if isinstance(node, ast.Constant) and isinstance(node.value, str) and "%" in node.value:
+                        self.refuse(path, node.lineno, "L27", node.value)
+                    if isinstance(node, ast.Expr) and not self.may_stand_by_itself(node, tree):
+                        self.refuse(path, node.lineno, "L6", ast.dump(node))
+
+    def may_stand_by_itself(self, node, tree):
+        return isinstance(node.value, ast.Call) or node == tree.body[0]
+
+    def test_top_of_files(self):
+        allowed = (ast.Expr, ast.ImportFrom, ast.FunctionDef, ast.ClassDef, ast.Assign)
+        for path, text, tree in trees():
+            with self.subTest(file=path.name):
+                self.assertTrue(all(isinstance(node, allowed) for node in tree.body))
+                self.assertIsNotNone(ast.get_docstring(tree))
+                names = top_names(tree)
+                self.assertEqual(sorted(set(names)), sorted(names))
+
+    def test_imports(self):
+        drawn = {}
+        for path, text, tree in trees():
+            with self.subTest(file=path.name):
+                drawn[path.stem] = []
+                for node in ast.walk(tree):
+                    if isinstance(node, ast.ImportFrom):
+                        self.assertIn(node, tree.body)
+                        self.assertEqual(node.level, 0)
+                        self.assertRegex(node.module, r"\Astaymark\.[a-z0-9_]+\Z")
+                        self.assertTrue(all(alias.asname is None and alias.name != "*" for alias in node.names))
+                        drawn[path.stem].append(node.module.partition(".")[2])
+        self.assertEqual(drawn["__init__"], [])
+        for name in drawn:
+            self.assertNotIn(name, self.drawn_in_steps(drawn, name))
+
+    def drawn_in_steps(self, drawn, name):
+        found, waiting = set(), list(drawn[name])
+        while waiting:
+            other = waiting.pop()
+            if other not in found:
+                found.add(other)
+                waiting += drawn[other]
+        return found
+
+    def test_imports_are_from_the_file_that_defines(self):
+        defined = {}
+        for path, text, tree in trees():
+            defined[path.stem] = [node.name for node in tree.body if isinstance(node, (ast.FunctionDef, ast.ClassDef))]
+            defined[path.stem] += [node.targets[0].id for node in tree.body if isinstance(node, ast.Assign)]
+        for path, text, tree in trees():
+            with self.subTest(file=path.name):
+                for node in tree.body:
+                    if isinstance(node, ast.ImportFrom):
+                        for alias in node.names:
+                            self.assertIn(alias.name, defined[node.module.partition(".")[2]])
+
+    def test_imports_are_used(self):
+        for path, text, tree in trees():
+            with self.subTest(file=path.name):
+                used = [node.id for node in ast.walk(tree) if isinstance(node, ast.Name)]
+                for node in tree.body:
+                    if isinstance(node, ast.ImportFrom):
+                        self.assertTrue(all(alias.name in used for alias in node.names))
+
+    def test_functions(self):
+        for path, text, tree in trees():
+            with self.subTest(file=path.name):
+                for node in defs_of(tree):
+                    self.assertEqual(node.decorator_list, [])
+                    self.assertEqual((node.args.vararg, node.args.kwarg), (None, None))
+                    self.assertEqual((node.args.kwonlyargs, node.args.posonlyargs), ([], []))
+
+    def test_classes(self):
+        for path, text, tree in trees():
+            with self.subTest(file=path.name):
+                for node in ast.walk(tree):
+                    if isinstance(node, ast.ClassDef):
+                        self.assertIn(node, tree.body)
+                        self.assertEqual((node.decorator_list, node.keywords), ([], []))
+                        self.assertLessEqual(len(node.bases), 1)
+                        self.assertTrue(all(isinstance(part, (ast.FunctionDef, ast.Pass)) for part in node.body))
+
+    def test_assignments_have_one_target(self):
+        for path, text, tree in trees():
+            with self.subTest(file=path.name):
+                for node in ast.walk(tree):
+                    if isinstance(node, ast.Assign):
+                        self.assertEqual(len(node.targets), 1)
+                        self.assertNotIsInstance(node.targets[0], (ast.Tuple, ast.List))
+                    if isinstance(node, (ast.For, ast.While)):
+                        self.assertEqual(node.orelse, [])
+                    if isinstance(node, ast.Try):
+                        self.assertEqual(node.finalbody, [])
+
+    def test_names(self):
+        for path, text, tree in trees():
+            with self.subTest(file=path.name):
+                outside = [alias.name for node in tree.body if isinstance(node, ast.ImportFrom) for alias in node.names]
+                outside += [node.name for node in tree.body if isinstance(node, ast.ClassDef)]
+                classes = [node.name for node in tree.body if isinstance(node, ast.ClassDef)]
+                for name, line in bound_names(tree):
+                    if name in SPECIAL_METHODS:
+                        continue
+                    if not re.fullmatch(r"[A-Za-z][A-Za-z0-9_]*", name) or name in NAMES_NOWHERE:
+                        self.refuse(path, line, "L12, L17", name)
+                    if name in dir(builtins) or (name in outside and name not in classes):
+                        self.refuse(path, line, "L15", name)
+
+    def test_python_s_own_names(self):
+        for path, text, tree in trees():
+            with self.subTest(file=path.name):
+                for node in ast.walk(tree):
+                    if isinstance(node, ast.Name) and node.id in dir(builtins) and node.id not in OWN_NAMES:
+                        self.refuse(path, node.lineno, "L8", node.id)
+                    if isinstance(node, ast.Name) and node.id.startswith("__"):
+                        self.refuse(path, node.lineno, "L8", node.id)
+
+    def test_methods(self):
+        own = [node.name for path, text, tree in trees() for part in tree.body if isinstance(part, ast.ClassDef)
+               for node in part.body if isinstance(node, ast.FunctionDef)]
+        for path, text, tree in trees():
+            with self.subTest(file=path.name):
+                for node in ast.walk(tree):
+                    if isinstance(node, ast.Call) and isinstance(node.func, ast.Attribute):
+                        if node.func.attr not in OWN_METHODS + own:
+                            self.refuse(path, node.lineno, "L25", node.func.attr)
+
+    def test_comprehensions(self):
+        for path, text, tree in trees():
+            with self.subTest(file=path.name):
+                for node in ast.walk(tree):
+                    if isinstance(node, ast.ListComp):
+                        self.assertEqual(len(node.generators), 1)
+                        self.assertLessEqual(len(node.generators[0].ifs), 1)
+
+    def test_is_stands_beside_plain_values(self):
+        for path, text, tree in trees():
+            with self.subTest(file=path.name):
+                for node in ast.walk(tree):
+                    if isinstance(node, ast.Compare) and any(isinstance(op, (ast.Is, ast.IsNot)) for op in node.ops):
+                        sides = [node.left] + node.comparators
+                        plain = [side for side in sides if isinstance(side, ast.Constant)]
+                        self.assertTrue(any(side.value is None or isinstance(side.value, bool) for side in plain))
+
+    def test_f_strings_are_plain(self):
+        for path, text, tree in trees():
+            with self.subTest(file=path.name):
+                for node in ast.walk(tree):
+                    if isinstance(node, ast.FormattedValue):
+                        self.assertIsInstance(node.value, ast.Name)
+                        self.assertIsNone(node.format_spec)
+                        self.assertIn(node.conversion, (-1, ord("r")))
+
+    def test_errors_that_are_taken(self):
+        for path, text, tree in trees():
+            with self.subTest(file=path.name):
+                for node in ast.walk(tree):
+                    if isinstance(node, ast.ExceptHandler):
+                        self.assertIsInstance(node.type, (ast.Name, ast.Tuple))
+                        names = [part.id for part in ast.walk(node.type) if isinstance(part, ast.Name)]
+                        self.assertFalse({"Exception", "TypeError"} & set(names))
+
+    def test_sets_are_not_kept(self):
+        for path, text, tree in trees():
+            with self.subTest(file=path.name):
+                for node in ast.walk(tree):
+                    value = node.value if isinstance(node, (ast.Assign, ast.Return)) else None
+                    called = isinstance(value, ast.Call) and isinstance(value.func, ast.Name) and value.func.id
+                    if isinstance(value, ast.Set) or called in ("set", "frozenset"):
+                        self.refuse(path, node.lineno, "L24", "a set is kept")
+
+
+if __name__ == "__main__":
+    unittest.main()
