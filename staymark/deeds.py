@@ -105,19 +105,18 @@ def signs_added(deed):
     return len(deed[3]) if deed[0] == "add" else 0
 
 
-def has_all_named(deeds):
-    added = {}
-    for deed in deeds:
-        added[deed[1]] = signs_added(deed)
-    for deed in deeds:
-        if not all([named in added for named in deeds_named(deed)]):
-            return False
-        if not all([sign[1] < added[sign[0]] for sign in signs_named(deed)]):
-            return False
-    return True
+def by_ids(deeds):
+    return dict([(deed[1], deed) for deed in deeds])
+
+
+def has_all_named(known, deed):
+    if not all([named in known for named in deeds_named(deed)]):
+        return False
+    return all([sign[1] < signs_added(known[sign[0]]) for sign in signs_named(deed)])
 
 
 def is_book(thing):
     if not isinstance(thing, tuple) or not all([is_deed(deed) for deed in thing]):
         return False
-    return is_rising([deed[1] for deed in thing]) and has_all_named(thing)
+    known = by_ids(thing)
+    return is_rising([deed[1] for deed in thing]) and all([has_all_named(known, deed) for deed in thing])

@@ -7,7 +7,8 @@ from staymark.errors import NoDeed, NoSign
 def adds_behind(book):
     behind = {}
     for deed in book:
-        if deed[0] == "add":
+        # A text without signs has no first one to stand behind another.
+        if signs_added(deed) > 0:
             behind.setdefault(deed[2], []).append(deed)
     return behind
 
@@ -40,9 +41,13 @@ def undone_in(book):
     return undone
 
 
-def in_effect(book, which):
+def refuse_unless_deed(book, which):
     if which not in [deed[1] for deed in book]:
         raise NoDeed(f"the book has no deed {which!r}")
+
+
+def in_effect(book, which):
+    refuse_unless_deed(book, which)
     return which not in undone_in(book)
 
 
@@ -55,14 +60,17 @@ def dropped_in(book, undone):
     return dropped
 
 
-def shown_in(book):
+def presence_in(book):
     undone = undone_in(book)
     dropped = dropped_in(book, undone)
     told = []
     for pair in signs_of(book):
-        if pair[0][0] not in undone and pair[0] not in dropped:
-            told.append(pair)
+        told.append((pair, pair[0][0] not in undone and pair[0] not in dropped))
     return told
+
+
+def shown_in(book):
+    return [step[0] for step in presence_in(book) if step[1]]
 
 
 def text_of(book):

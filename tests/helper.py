@@ -3,6 +3,9 @@
 import random
 
 SIGNS = "".join(chr(code) for code in range(ord(" "), ord("~") + 1))
+NAMES = ["x", "yy", "k"]
+ALL_WORDS = ["add", "add", "add", "drop", "mark", "unmark", "undo", "undo"]
+MARK_WORDS = ["add", "drop", "mark", "mark", "mark", "mark", "unmark", "undo"]
 
 
 def add(time, hand, behind, text):
@@ -29,6 +32,16 @@ def sign(time, hand, number):
     return ((time, hand), number)
 
 
+def spread(text, *stretches):
+    """A book of this text, with marks (name, begin, end) that hold on to what is within them, or to nothing."""
+    deeds = [add(1, "a", None, text)] if text else []
+    for number, (name, begin, end) in enumerate(stretches):
+        start = (sign(1, "a", begin) if begin < len(text) else None, "r")
+        stop = (sign(1, "a", end - 1) if end > 0 else None, "l")
+        deeds.append(mark(number + 2, "a", name, start, stop))
+    return tuple(deeds)
+
+
 def named_by(deed):
     if deed[0] == "undo":
         return [deed[2]]
@@ -43,37 +56,43 @@ def named_by(deed):
     return [one[0] for one in signs if one is not None]
 
 
-def random_deed(source, deed_id, older):
+def random_deed(source, deed_id, older, words):
     """A deed of this id that names some of the older ones."""
     signs = [(deed[1], number) for deed in older if deed[0] == "add" for number in range(len(deed[3]))]
-    word = source.choice(["add", "add", "add", "drop", "mark", "unmark", "undo", "undo"])
+    word = source.choice(words)
     if word == "drop" and signs:
         return (word, deed_id, tuple(sorted(source.sample(signs, source.randint(1, min(4, len(signs)))))))
     if word == "mark":
         anchors = [(source.choice(signs + [None]), source.choice("lr")) for _ in range(2)]
-        return (word, deed_id, source.choice(["x", "yy"]), anchors[0], anchors[1])
+        return (word, deed_id, source.choice(NAMES), anchors[0], anchors[1])
     if word == "unmark":
-        return (word, deed_id, source.choice(["x", "yy"]))
+        return (word, deed_id, source.choice(NAMES))
     if word == "undo" and older:
         return (word, deed_id, source.choice(older)[1])
     text = "".join(source.choice(SIGNS) for _ in range(source.randint(1, 4)))
     return ("add", deed_id, source.choice(signs + [None]), text)
 
 
-def random_book(source, many):
+def random_book(source, many, words):
     """So many deeds, several of one time among them."""
     ids = sorted(source.sample([(time, hand) for time in range(1, many + 1) for hand in "abc"], many))
     deeds = []
     for deed_id in ids:
         older = [deed for deed in deeds if deed[1][0] < deed_id[0]]
-        deeds.append(random_deed(source, deed_id, older))
+        deeds.append(random_deed(source, deed_id, older, words))
     return tuple(deeds)
 
 
 def random_books(many):
     """The same books each time: a test that fails is to fail again."""
     source = random.Random(7)
-    return [random_book(source, source.randint(0, 14)) for _ in range(many)]
+    return [random_book(source, source.randint(0, 14), ALL_WORDS) for _ in range(many)]
+
+
+def random_marked_books(many):
+    """Books with more marks than others have, of few names, so that they meet."""
+    source = random.Random(8)
+    return [random_book(source, source.randint(0, 18), MARK_WORDS) for _ in range(many)]
 
 
 def random_part(source, book):
@@ -116,3 +135,51 @@ def leaning_by_words(book, deed_id):
             found.add(deed[1])
             found.update(leaning_by_words(book, deed[1]))
     return sorted(found)
+
+
+def shown_by_words(book):
+    return [pair for pair in order_by_insertion(book) if there_by_words(book, pair[0])]
+
+
+def text_by_words(book):
+    return "".join(pair[1] for pair in shown_by_words(book))
+
+
+def place_by_words(book, anchor):
+    there = [(pair[0], there_by_words(book, pair[0])) for pair in order_by_insertion(book)]
+    if anchor[0] is None:
+        return 0 if anchor[1] == "l" else sum(shown for _, shown in there)
+    at = [one for one, _ in there].index(anchor[0])
+    upto = at + 1 if anchor[1] == "l" else at
+    return sum(shown for _, shown in there[:upto])
+
+
+def mark_deeds_by_words(book):
+    """By rising names, the deeds by which the marks are."""
+    told = []
+    for name in sorted({deed[2] for deed in book if deed[0] in ("mark", "unmark")}):
+        of_name = [deed for deed in book if deed[0] in ("mark", "unmark") and deed[2] == name]
+        in_effect = [deed for deed in of_name if effect_by_words(book, deed[1])]
+        if in_effect and max(in_effect, key=lambda deed: deed[1])[0] == "mark":
+            told.append(max(in_effect, key=lambda deed: deed[1]))
+    return told
+
+
+def marks_by_words(book):
+    told = []
+    for deed in mark_deeds_by_words(book):
+        begin, end = place_by_words(book, deed[3]), place_by_words(book, deed[4])
+        told.append((deed[2], begin, begin if begin > end else end))
+    return told
+
+
+def signs_held(mark):
+    """The places of a mark's signs."""
+    return set(range(mark[1], mark[2]))
+
+
+def kinds_of(thing):
+    """The thing with the class of each of its parts, so that a list is not taken for a tuple."""
+    if isinstance(thing, (list, tuple)):
+        return (thing.__class__, [kinds_of(part) for part in thing])
+    return (thing.__class__, thing)

@@ -28,6 +28,10 @@ WORDS_NOWHERE = """type typing typing_extensions enum Enum IntEnum StrEnum Flag 
 namedtuple NamedTuple TypedDict TYPE_CHECKING abstractmethod""".split()
 PARTS_NOWHERE = ["dataclass", "overload", "contextmanager"]
 NAMES_NOWHERE = """register mro elements open input version_info with_traceback add_note format format_map""".split()
+WALKED = ["zip", "enumerate", "reversed", "range"]
+WALKERS = ["list", "tuple", "dict", "sorted", "sum", "any", "all", "enumerate", "zip"]
+KEYWORDS = {"sorted": ["key", "reverse"], "min": ["key", "default"], "max": ["key", "default"], "sum": ["start"],
+            "enumerate": ["start"], "zip": ["strict"]}
 FILE_NAMES_NOWHERE = ["test", "tests", "testing", "site", "conftest", "sitecustomize", "usercustomize"]
 
 
@@ -37,6 +41,26 @@ def trees():
 
 def defs_of(tree):
     return [node for node in ast.walk(tree) if isinstance(node, ast.FunctionDef)]
+
+
+def parents_of(tree):
+    return {child: node for node in ast.walk(tree) for child in ast.iter_child_nodes(node)}
+
+
+def called_name(node):
+    """The name that is called here, or None."""
+    return node.func.id if isinstance(node, ast.Call) and isinstance(node.func, ast.Name) else None
+
+
+def walked_at_once(node, parent):
+    """L23: behind an in, within one of a few calls, or in the join of a written text."""
+    if isinstance(parent, (ast.For, ast.comprehension)) and parent.iter is node:
+        return True
+    if not isinstance(parent, ast.Call) or parent.args[:1] != [node]:
+        return called_name(parent) == "zip"
+    if isinstance(parent.func, ast.Attribute):
+        return parent.func.attr == "join" and isinstance(parent.func.value, ast.Constant)
+    return called_name(parent) in WALKERS or called_name(parent) in ("min", "max") and len(parent.args) == 1
 
 
 def bound_names(tree):
@@ -274,6 +298,99 @@ class Language(unittest.TestCase):
                     called = isinstance(value, ast.Call) and isinstance(value.func, ast.Name) and value.func.id
                     if isinstance(value, ast.Set) or called in ("set", "frozenset"):
                         self.refuse(path, node.lineno, "L24", "a set is kept")
+
+    def test_sets_stand_where_they_may(self):
+        for path, text, tree in trees():
+            parents = parents_of(tree)
+            for node in ast.walk(tree):
+                if called_name(node) in ("set", "frozenset") or isinstance(node, ast.Set):
+                    parent = parents[node]
+                    while isinstance(parent, ast.BinOp):
+                        parent = parents[parent]
+                    within = called_name(parent) in ("sorted", "len") and not parent.keywords
+                    if not within and not isinstance(parent, ast.Compare):
+                        self.refuse(path, node.lineno, "L24", ast.dump(parent))
+
+    def test_walked_at_once(self):
+        for path, text, tree in trees():
+            parents = parents_of(tree)
+            for node in ast.walk(tree):
+                method = node.func.attr if isinstance(node, ast.Call) and isinstance(node.func, ast.Attribute) else None
+                if called_name(node) in WALKED or method in ("items", "keys", "values"):
+                    if not walked_at_once(node, parents[node]):
+                        self.refuse(path, node.lineno, "L23", ast.dump(parents[node]))
+
+    def test_python_s_own_are_called(self):
+        for path, text, tree in trees():
+            parents = parents_of(tree)
+            for node in ast.walk(tree):
+                if isinstance(node, ast.Name) and node.id in OWN_NAMES and not node.id[0].isupper():
+                    parent = parents[node]
+                    asked = parents[parent] if isinstance(parent, ast.Tuple) else parent
+                    called = isinstance(parent, ast.Call) and parent.func is node
+                    if not called and called_name(asked) != "isinstance" and not isinstance(parent, ast.keyword):
+                        self.refuse(path, node.lineno, "L22", node.id)
+
+    def test_keywords(self):
+        for path, text, tree in trees():
+            for node in ast.walk(tree):
+                if isinstance(node, ast.Call):
+                    for keyword in node.keywords:
+                        if keyword.arg not in KEYWORDS.get(called_name(node), []):
+                            self.refuse(path, node.lineno, "L22", keyword.arg)
+
+    def test_methods_are_called_where_they_stand(self):
+        methods = [node.name for path, text, tree in trees() for part in tree.body if isinstance(part, ast.ClassDef)
+                   for node in part.body if isinstance(node, ast.FunctionDef)]
+        values = [node.attr for path, text, tree in trees() for node in ast.walk(tree)
+                  if isinstance(node, ast.Attribute) and isinstance(node.ctx, ast.Store)]
+        self.assertEqual(set(methods) & set(values), set())
+        for path, text, tree in trees():
+            parents = parents_of(tree)
+            for node in ast.walk(tree):
+                if isinstance(node, ast.Attribute) and node.attr in OWN_METHODS + methods:
+                    parent = parents[node]
+                    called = isinstance(parent, ast.Call) and parent.func is node
+                    if not called and not isinstance(parent, ast.keyword):
+                        self.refuse(path, node.lineno, "L25", node.attr)
+
+    def test_own_methods_and_values(self):
+        taken = {name for kind in (str, int, list, tuple, dict, set, bytes) for name in dir(kind)}
+        values = "count index title find get join lower upper split strip copy add".split()
+        for path, text, tree in trees():
+            for part in [node for node in tree.body if isinstance(node, ast.ClassDef)]:
+                names = [node.name for node in part.body if isinstance(node, ast.FunctionDef)]
+                self.assertEqual(len(set(names)), len(names))
+                for name in names:
+                    if name in taken and name not in SPECIAL_METHODS + OWN_METHODS + ["add", "discard"]:
+                        self.refuse(path, part.lineno, "L26", name)
+            for node in ast.walk(tree):
+                if isinstance(node, ast.Attribute) and isinstance(node.ctx, ast.Store):
+                    self.assertIsInstance(node.value, ast.Name)
+                    if node.attr in taken and node.attr not in values:
+                        self.refuse(path, node.lineno, "L26", node.attr)
+
+    def test_errors_are_made_on_the_spot(self):
+        for path, text, tree in trees():
+            for node in ast.walk(tree):
+                if isinstance(node, ast.Raise) and not isinstance(node.exc, ast.Call):
+                    self.refuse(path, node.lineno, "L19", ast.dump(node))
+
+    def test_init_gives_back_nothing_and_nothing_is_annotated(self):
+        for path, text, tree in trees():
+            for node in defs_of(tree):
+                if node.returns is not None or any(part.annotation is not None for part in node.args.args):
+                    self.refuse(path, node.lineno, "L21", node.name)
+                if node.name == "__init__" and any(isinstance(part, ast.Return) for part in ast.walk(node)):
+                    self.refuse(path, node.lineno, "L28", node.name)
+
+    def test_powers_and_escapes(self):
+        for path, text, tree in trees():
+            self.assertIsNone(re.search(r"\\[^nt\\'\"]", text))
+            for node in ast.walk(tree):
+                if isinstance(node, ast.BinOp) and isinstance(node.op, ast.Pow):
+                    if not isinstance(node.right, ast.Constant) or not 0 <= node.right.value <= 64:
+                        self.refuse(path, node.lineno, "L27", ast.dump(node))
 
 
 if __name__ == "__main__":
