@@ -1,20 +1,25 @@
-"""[0.2] (b), (c), (d) of whole books, and [0.3]: what is told is new, what is handed in is not changed and not kept."""
+"""[0.2] (b), (c), (d), (f), (g) of whole books, and [0.3]: what is told is new, what is handed in stays as it is."""
 
 import copy
 import random
 import unittest
 
-from helper import (add, leaning_by_words, random_books, random_marked_books, random_part, shown_by_words, sign,
+from helper import (add, drop, leaning_by_words, random_books, random_marked_books, random_part, shown_by_words, sign,
                     spread, undo, unmark)
+from staymark.changes import changed_by, changes_between, moved_marks
 from staymark.errors import BadBook, MarkError
 from staymark.hands import Hand, met
+from staymark.history import as_of, by_hand, lost, texts_of
 from staymark.joining import joined, lacking, ready, trimmed, without
 from staymark.marks import anchor_at, drawn, hand_marks, marked, marks_of, names_at, place_of
 from staymark.orders import authors_of, in_effect, signs_of, text_of
+from staymark.reading import read
 from staymark.stretches import bare, crossing, inner_of, pieces, widest
+from staymark.writing import written
 
 BOOK = spread("abcdef", ("x", 0, 4), ("y", 2, 6), ("z", 3, 3), ("in", 1, 2))
 WAITING = undo(9, "c", (8, "c"))
+GONE = (add(1, "a", None, "abc"), drop(2, "b", *[sign(1, "a", number) for number in range(3)]))
 
 # Each tells a list, or something that holds lists.
 TELLS = [
@@ -23,6 +28,9 @@ TELLS = [
     lambda: inner_of(BOOK, "x"), lambda: inner_of(BOOK, "z"), lambda: lacking(BOOK[:1], BOOK),
     lambda: ready(BOOK, [WAITING]), lambda: ready(BOOK, []), lambda: marks_of(()), lambda: hand_marks(()),
     lambda: pieces(()), lambda: bare(()), lambda: crossing(()), lambda: lacking((), ()),
+    lambda: changes_between(BOOK[:1], BOOK), lambda: changes_between((), BOOK), lambda: moved_marks(BOOK[:2], BOOK),
+    lambda: moved_marks((), ()), lambda: texts_of(BOOK), lambda: texts_of(()), lambda: lost(GONE), lambda: lost(()),
+    lambda: by_hand(BOOK, "a"), lambda: by_hand(BOOK, "b"), lambda: by_hand((), "a"),
 ]
 
 
@@ -33,7 +41,8 @@ def shows(book):
 def tells(book):
     """All that is told of a book alone."""
     return [signs_of(book), authors_of(book), drawn(book), hand_marks(book), pieces(book), bare(book), crossing(book),
-            widest(book), trimmed(book), shows(book)]
+            widest(book), trimmed(book), shows(book), changes_between((), book), moved_marks((), book), texts_of(book),
+            lost(book), [by_hand(book, hand) for hand in "abc"], written(book)]
 
 
 def spoil(thing):
@@ -110,6 +119,55 @@ class Undone(unittest.TestCase):
                         self.assertEqual(shows(undone + (undo(time + 1, "g", (time, "h")),)), shows(book))
 
 
+class Changed(unittest.TestCase):
+    """[0.2] (f)"""
+
+    def test_changes_lead_from_each_text_to_the_next(self):
+        for book in random_books(40) + random_marked_books(40):
+            text = ""
+            for time, then in enumerate(texts_of(book)[1:]):
+                text = changed_by(text, changes_between(as_of(book, time), as_of(book, time + 1)))
+                with self.subTest(book=book, time=time):
+                    self.assertEqual(text, then)
+
+    def test_what_a_hand_takes_changes_its_text_just_so(self):
+        one, other = Hand("a"), Hand("b")
+        one.add(0, "to be")
+        met(one, other)
+        one.become("to see")
+        other.add(5, ", or not"), other.mark("x", 3, 2, "rl")
+        before = one.known()
+        one.take(lacking(before, other.known()))
+        changes = changes_between(before, one.known())
+        self.assertEqual((changes, one.text()), ([(6, "", ", or not")], "to see, or not"))
+        self.assertEqual(moved_marks(before, one.known()), [("x", None, (5, 6))])
+        before = other.known()
+        met(one, other)
+        self.assertEqual(changes_between(before, other.known()), [(3, "b", "se")])
+        self.assertEqual(moved_marks(before, other.known()), [("x", (3, 5), (5, 6))])
+
+    def test_pieces_make_up_the_text(self):
+        for book in random_marked_books(40):
+            self.assertEqual("".join(piece for piece, _ in pieces(book)), text_of(book))
+
+
+class Texts(unittest.TestCase):
+    """[0.2] (g)"""
+
+    def test_books_that_go_as_texts_tell_the_same(self):
+        source = random.Random(33)
+        for book in random_books(30) + random_marked_books(30):
+            one, two = random_part(source, book), random_part(source, book)
+            with self.subTest(one=one, two=two):
+                self.assertEqual(tells(read(written(book))), tells(book))
+                self.assertEqual(joined(read(written(one)), read(written(two))), joined(one, two))
+                self.assertEqual(read(written(trimmed(book))), trimmed(book))
+
+    def test_one_text_is_of_one_book(self):
+        books = random_books(60)
+        self.assertEqual(len({written(book) for book in books}), len(set(books)))
+
+
 class ToldAndHandedIn(unittest.TestCase):
     """[0.3]"""
 
@@ -143,6 +201,11 @@ class ToldAndHandedIn(unittest.TestCase):
         self.assertEqual(deeds, kept)
         deeds.clear()
         self.assertEqual(told[0], BOOK[:2])
+
+    def test_list_of_changed_by_is_not_changed(self):
+        changes = changes_between(GONE, GONE + (undo(3, "a", (2, "b")),))
+        kept = list(changes)
+        self.assertEqual([changed_by("", changes), changed_by("", changes), changes], ["abc", "abc", kept])
 
     def test_list_of_take_is_not_changed_and_not_kept(self):
         hand = Hand("h")
