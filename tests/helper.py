@@ -2,6 +2,8 @@
 
 import random
 
+from staymark.albums import Album
+
 SIGNS = "".join(chr(code) for code in range(ord(" "), ord("~") + 1))
 NAMES = ["x", "yy", "k"]
 ALL_WORDS = ["add", "add", "add", "drop", "mark", "unmark", "undo", "undo"]
@@ -176,6 +178,18 @@ def marks_by_words(book):
 def signs_held(mark):
     """The places of a mark's signs."""
     return set(range(mark[1], mark[2]))
+
+
+def album_of(**books):
+    """An album that keeps these books, step by step in their order."""
+    album = Album()
+    for name, book in books.items():
+        album.keep(name, book)
+    return album
+
+
+def books_in(album):
+    return {name: album.fetch(name) for name in album.names()}
 
 
 def kinds_of(thing):

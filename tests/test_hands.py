@@ -128,8 +128,11 @@ class Drops(HandCase):
 
     def test_no_place(self):
         for place, many in [(-1, 1), (-1, 2), (0, 0), (3, 0), (4, 0), (0, 4), (1, 3), (3, 1), (4, 1), (1, -1), (2, -2),
-                            (-1, 0), (4, -1)]:
+                            (-1, 0), (4, -1), (-2, 1), (-3, 2), (-3, 1), (-3, 6), (-4, 3)]:
             self.assert_refused(hand_with("a", "abc"), NoPlace, "drop", place, many)
+        # Counted from the end, these would be signs that are there.
+        for place, many in [(-1, 1), (-1, 2)]:
+            self.assert_refused(hand_with("a", "q"), NoPlace, "drop", place, many)
         for place, many in [(0, 0), (0, 1), (1, -1)]:
             self.assert_refused(Hand("a"), NoPlace, "drop", place, many)
 

@@ -28,6 +28,9 @@ WORDS_NOWHERE = """type typing typing_extensions enum Enum IntEnum StrEnum Flag 
 namedtuple NamedTuple TypedDict TYPE_CHECKING abstractmethod""".split()
 PARTS_NOWHERE = ["dataclass", "overload", "contextmanager"]
 NAMES_NOWHERE = """register mro elements open input version_info with_traceback add_note format format_map""".split()
+NAMES_NOT_BOUND = """attrgetter breakpoint builtins compile copyright credits delattr dir eval exec exit gc getattr
+globals hasattr help id importlib license locals methodcaller os quit setattr super type vars sys""".split()
+CHANGING = ["append", "clear", "extend", "insert", "pop", "remove", "reverse", "setdefault", "update"]
 WALKED = ["zip", "enumerate", "reversed", "range"]
 WALKERS = ["list", "tuple", "dict", "sorted", "sum", "any", "all", "enumerate", "zip"]
 KEYWORDS = {"sorted": ["key", "reverse"], "min": ["key", "default"], "max": ["key", "default"], "sum": ["start"],
@@ -235,6 +238,30 @@ class Language(unittest.TestCase):
                         self.refuse(path, line, "L12, L17", name)
                     if name in dir(builtins) or (name in outside and name not in classes):
                         self.refuse(path, line, "L15", name)
+
+    def test_names_that_are_not_used(self):
+        for path, text, tree in trees():
+            for node in ast.walk(tree):
+                if isinstance(node, ast.Name) and node.id in NAMES_NOT_BOUND:
+                    self.refuse(path, node.lineno, "L17", node.id)
+                if isinstance(node, ast.arg) and node.arg in NAMES_NOT_BOUND:
+                    self.refuse(path, node.lineno, "L17", node.arg)
+                if isinstance(node, ast.Attribute) and node.attr in NAMES_NOWHERE:
+                    self.refuse(path, node.lineno, "L17", node.attr)
+
+    def test_lists_and_dicts_of_the_top_are_only_read(self):
+        kept = [node.targets[0].id for path, text, tree in trees() for node in tree.body
+                if isinstance(node, ast.Assign) and isinstance(node.value, (ast.List, ast.Dict))]
+        for path, text, tree in trees():
+            parents = parents_of(tree)
+            for node in ast.walk(tree):
+                if isinstance(node, ast.Name) and node.id in kept and isinstance(node.ctx, ast.Load):
+                    parent = parents[node]
+                    stored = isinstance(parent, ast.Subscript) and not isinstance(parent.ctx, ast.Load)
+                    changed = isinstance(parent, ast.Attribute) and parent.attr in CHANGING
+                    handed = isinstance(parent, (ast.Return, ast.Assign, ast.List, ast.Tuple, ast.Dict))
+                    if stored or changed or handed:
+                        self.refuse(path, node.lineno, "L15", node.id)
 
     def test_python_s_own_names(self):
         for path, text, tree in trees():
